@@ -1,0 +1,1 @@
+"""Neverboxes: which programs can be written with which boxes, if inputs may never answer."""
