@@ -49,6 +49,55 @@ MODULES = {
     },
     "programtexts": {"program_text": "(program)", "read_program": "(text, stock)"},
     "composing": {"put_into": "(outer, inners, *, inputs)", "programs_part": "(one, other)"},
+    "lots": {
+        "is_lot": "(value, count)", "is_column": "(value, count, signs)", "every_lot": "(count)",
+        "is_pairs": "(value, count)", "answers_on": "(column, lot)", "alike_on": "(column, lot)",
+        "keeps_pair": "(column, pair)", "first_broken": "(column, pairs)", "check_rows": "(rows, signs)",
+        "check_picks": "(many, stock)", "thinned": "(rows, lot)",
+    },
+    "asking": {"told_inputs": "(rows, lot)", "asking_pairs": "(rows, signs)"},
+    "filling": {"filled": "(pairs, column)", "fill_steps": "(pairs, column)"},
+    "picks": {
+        "every_pick": "(lot, box)", "told_columns": "(count, lot, box, pick)",
+        "outcome": "(count, pairs, lot, box, pick)", "effect": "(count, pairs, lot, box, pick)",
+    },
+    "closed": {"fault": "(rows, stock, pairs)", "is_closed": "(rows, stock, pairs)"},
+    "sheets": {
+        "Sheet": {
+            "rows": "(self)", "pairs": "(self)", "reach": "(self, lot)", "__getitem__": "(self, at)",
+            "__contains__": "(self, x)", "open_lots": "(self)", "keeps": "(self, column)", "broken": "(self, column)",
+            "filling": "(self, column)", "steps": "(self, column)", "number": "(self)", "every_column": "(self)",
+            "__eq__": "(self, other)", "__len__": "(self)", "__repr__": "(self)",
+        },
+        "sheet_of": "(rows, stock)", "strikes": "(rows, stock)",
+    },
+    "making": {"make": "(sheet, column)", "splitter": "(sheet, lot)", "guard": "(sheet, lot)"},
+    "tablemaking": {
+        "test_lists": "(table)", "barred": "(table, stock)", "makes": "(stock, table)", "make_table": "(table, stock)",
+    },
+    "certificates": {
+        "shows_column": "(rows, stock, column, program)", "bars_column": "(rows, stock, column, value)",
+        "shows_open": "(rows, stock, lot, program)",
+        "shows_reach": "(rows, stock, lot, reach, pairs, program)", "certificate": "(sheet, column)",
+    },
+    "wishes": {
+        "Wish": {
+            "__init__": "(self, *items)", "parts": "(self)", "lets": "(self, at, value)", "met_by": "(self, column)",
+            "text": "(self)", "read": "(text)", "__eq__": "(self, other)", "__len__": "(self)",
+            "__bool__": "(self)", "__repr__": "(self)",
+        },
+        "least_column": "(sheet, wish)", "choice_fails": "(sheet, wish)", "may_be": "(sheet, wish, row)",
+        "wish_program": "(sheet, wish)",
+    },
+    "functions": {
+        "Function": {"__init__": "(self, name, inputs, lines)", "lines": "(self)"},
+        "Book": {
+            "__init__": "(self, stock, *functions)", "names": "(self)", "rounds": None,
+            "function_table": "(self, name)", "box": "(self, name)", "answer_of": "(self, name, row)",
+            "round_of": "(self, name, row)", "full_stock": "(self)", "__len__": "(self)", "__bool__": "(self)",
+            "__repr__": "(self)",
+        },
+    },
 }
 
 
