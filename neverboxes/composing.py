@@ -7,6 +7,42 @@ from neverboxes.programs import Program
 from neverboxes.tablework import parting_row
 
 
+class Writing:
+    """Lines of programs over one stock with one number of inputs, of which each is written once.
+
+    Several programs may share the lines; the one that is asked for is pruned.
+    """
+
+    def __init__(self, stock, inputs):
+        self._stock = stock
+        self._inputs = inputs
+        self._numbers = {}
+
+    def number_of(self, line):
+        """The number of a line, which is put behind the others if it is new."""
+        if line not in self._numbers:
+            self._numbers[line] = len(self._numbers)
+        return self._numbers[line]
+
+    def put(self, program, ends):
+        """The number of the line with the value of a program at the row of the values of some lines."""
+        places = []
+        for line in program.lines():
+            if line[0] == "input":
+                places.append(ends[line[1]])
+            else:
+                places.append(self.number_of(with_references(line, [places[number] for number in references(line)])))
+        return places[-1]
+
+    def put_as_it_is(self, program):
+        """As put, for a program that has the inputs of these lines."""
+        return self.put(program, [self.number_of(("input", at)) for at in range(self._inputs)])
+
+    def program_at(self, number):
+        lines = list(self._numbers)
+        return Program(self._stock, self._inputs, lines[:number + 1]).pruned()
+
+
 def check_inners(inners, outer, inputs):
     if not isinstance(inners, (list, tuple)) or len(inners) != outer.inputs:
         raise InvalidPrograms(-1)
@@ -15,30 +51,11 @@ def check_inners(inners, outer, inputs):
             raise InvalidPrograms(at)
 
 
-def moved(lines, by):
-    """The lines with all references moved."""
-    return [with_references(line, [number + by for number in references(line)]) for line in lines]
-
-
 def put_into(outer, inners, *, inputs):
     check_inputs(inputs)
     check_inners(inners, outer, inputs)
-    lines = []
-    ends = []
-    for inner in inners:
-        lines.extend(moved(inner.lines(), len(lines)))
-        ends.append(len(lines) - 1)
-    places = []
-    for line in outer.lines():
-        if line[0] == "input":
-            places.append(ends[line[1]])
-        else:
-            places.append(len(lines))
-            lines.append(with_references(line, [places[number] for number in references(line)]))
-    if places[-1] != len(lines) - 1:
-        # The last line of outer is an input, and the value of a program is that of its last line.
-        lines.append(lines[places[-1]])
-    return Program(outer.stock, inputs, lines).pruned()
+    writing = Writing(outer.stock, inputs)
+    return writing.program_at(writing.put(outer, [writing.put_as_it_is(inner) for inner in inners]))
 
 
 def programs_part(one, other):

@@ -70,6 +70,17 @@ def first_broken(column, pairs):
     return None
 
 
+def kept_columns(pairs, choices):
+    """The list, in row order, of the columns that keep all pairs and have at each row one of its choices."""
+    columns = [()]
+    for row, values in enumerate(choices):
+        # A pair can be checked as soon as the last row of its reach has a value, and none breaks one of a single row.
+        ending = [(lot, reach) for lot, reach in pairs if reach[-1] == row and len(reach) > 1]
+        grown = [column + (value,) for column in columns for value in values]
+        columns = [column for column in grown if first_broken(column, ending) is None]
+    return columns
+
+
 def check_rows(rows, signs):
     if not isinstance(rows, (list, tuple)) or len(rows) == 0:
         raise InvalidRow(-1)

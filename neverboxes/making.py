@@ -1,9 +1,9 @@
 """Programs for columns, made from what the strikes and cuts that lead to a sheet have told."""
 
 from neverboxes.asking import columns_of_inputs
+from neverboxes.composing import Writing
 from neverboxes.errors import Broken, UnknownLot
 from neverboxes.lots import alike_on, answers_on, is_lot
-from neverboxes.programs import Program
 
 
 def is_split(column, rows):
@@ -12,17 +12,13 @@ def is_split(column, rows):
 
 
 class Maker:
-    """Lines of programs for columns that keep a sheet.
-
-    All programs share the lines, so that each known column is written once; the one that is asked for is pruned.
-    """
+    """Lines of programs for columns that keep a sheet."""
 
     def __init__(self, sheet):
         rows = sheet.rows()
-        self._stock = sheet.stock
-        self._inputs = len(rows[0])
+        self._signs = sheet.stock.signs
         self._many = len(rows)
-        self._numbers = {}
+        self._writing = Writing(sheet.stock, len(rows[0]))
         self._known = [(column, self._number_of(("input", at))) for at, column in enumerate(columns_of_inputs(rows))]
         for blow in sheet.blow_list():
             name, columns, column = blow[1], blow[4], blow[5]
@@ -30,10 +26,7 @@ class Maker:
             self._known.append((column, self._number_of(("box", name, *ends))))
 
     def _number_of(self, line):
-        """The number of a line, which is put behind the others if it is new."""
-        if line not in self._numbers:
-            self._numbers[line] = len(self._numbers)
-        return self._numbers[line]
+        return self._writing.number_of(line)
 
     def line_for(self, column):
         """The number of a line that has a column; it must keep the pairs that the known columns leave."""
@@ -54,7 +47,7 @@ class Maker:
 
     def _split_by(self, known, number, column, rows, led):
         branches = []
-        for sign in range(self._stock.signs):
+        for sign in range(self._signs):
             rows_there = [row for row in rows if known[row] == sign]
             led_there = [row for row in led if known[row] == sign]
             branches.append(self._line_on(column, rows_there, led_there))
@@ -78,22 +71,20 @@ class Maker:
     def _asked(self, number, sign, end):
         """The line that asks a line and goes on to an end if it answers with one sign."""
         never = self._number_of(("never",))
-        branches = [end if other == sign else never for other in range(self._stock.signs)]
+        branches = [end if other == sign else never for other in range(self._signs)]
         return self._number_of(("ask", number, *branches))
 
-    def program_at(self, number):
-        lines = list(self._numbers)
-        return Program(self._stock, self._inputs, lines[:number + 1]).pruned()
+    def program_for(self, column):
+        return self._writing.program_at(self.line_for(column))
 
-    def first_split(self, rows):
-        """The number of the line of the first known column that splits some rows."""
-        return [number for known, number in self._known if is_split(known, rows)][0]
+    def split_program(self, rows):
+        """The program of the first known column that splits some rows."""
+        return self._writing.program_at([number for known, number in self._known if is_split(known, rows)][0])
 
 
 def made(sheet, column):
     """A program for a column that keeps the sheet."""
-    maker = Maker(sheet)
-    return maker.program_at(maker.line_for(column))
+    return Maker(sheet).program_for(column)
 
 
 def make(sheet, column):
@@ -107,8 +98,7 @@ def make(sheet, column):
 def splitter(sheet, lot):
     if not is_lot(lot, len(sheet.rows())) or lot in sheet:
         raise UnknownLot(lot)
-    maker = Maker(sheet)
-    return maker.program_at(maker.first_split(lot))
+    return Maker(sheet).split_program(lot)
 
 
 def guard(sheet, lot):

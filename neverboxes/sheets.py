@@ -3,9 +3,8 @@
 from neverboxes.asking import asking_pairs
 from neverboxes.errors import InvalidColumn, UnknownLot
 from neverboxes.filling import Fillings, fill_steps, filled
-from neverboxes.lots import check_picks, check_rows, every_lot, first_broken, is_column, is_lot
+from neverboxes.lots import check_picks, check_rows, every_lot, first_broken, is_column, is_lot, kept_columns
 from neverboxes.picks import PickSearch
-from neverboxes.rows import rows_above
 
 
 class Sheet:
@@ -64,9 +63,8 @@ class Sheet:
 
     def column_list(self):
         """The list of the columns of the stock, in row order."""
-        pairs = self.pairs()
-        columns = rows_above((None,) * len(self._rows), self.stock.signs)
-        return [column for column in columns if first_broken(column, pairs) is None]
+        values = [None, *list(range(self.stock.signs))]
+        return kept_columns(self.pairs(), [values] * len(self._rows))
 
     def number(self):
         return len(self.column_list())

@@ -1,7 +1,7 @@
 """Which tables a stock makes, and programs for them."""
 
 from neverboxes.boxes import Stock
-from neverboxes.composing import moved
+from neverboxes.composing import Writing
 from neverboxes.errors import Mismatch, NotMade, TooMany
 from neverboxes.lots import MOST_ROWS, check_picks
 from neverboxes.making import make
@@ -17,14 +17,23 @@ def test_lists(table):
     return [rows, *[[*rows, hanging] for hanging in table.hangs]]
 
 
-def check_makeable(table, stock):
-    """Checks what stands ahead of asking whether a stock makes a table."""
+def check_match(table, stock):
     if not isinstance(table, Table) or not isinstance(stock, Stock) or table.signs != stock.signs:
         raise Mismatch()
+
+
+def check_test_lists(table, stock):
+    """Checks whether the test lists of a table are such that a stock can have sheets of them."""
     many = max([len(rows) for rows in test_lists(table)], default=0)
     if many > MOST_ROWS:
         raise TooMany("rows", many)
     check_picks(many, stock)
+
+
+def check_makeable(table, stock):
+    """Checks what stands ahead of asking whether a stock makes a table."""
+    check_match(table, stock)
+    check_test_lists(table, stock)
 
 
 def column_of(table, rows):
@@ -66,18 +75,14 @@ def sheets_that_let(table, stock):
 
 def asked_in_turn(programs):
     """The program that asks all but the first of some programs, and goes on to the first one whatever they answer."""
-    lines = []
-    ends = []
-    for program in programs:
-        lines.extend(moved(program.lines(), len(lines)))
-        ends.append(len(lines) - 1)
     stock = programs[0].stock
+    writing = Writing(stock, programs[0].inputs)
+    ends = [writing.put_as_it_is(program) for program in programs]
     end = ends[0]
     for test in ends[1:]:
         branches = [end] * stock.signs
-        lines.append(("ask", test, *branches))
-        end = len(lines) - 1
-    return Program(stock, programs[0].inputs, lines).pruned()
+        end = writing.number_of(("ask", test, *branches))
+    return writing.program_at(end)
 
 
 def make_table(table, stock):

@@ -3,6 +3,7 @@
 from itertools import product
 
 from neverboxes.boxes import Box, Stock
+from neverboxes.nets import Net
 from neverboxes.programs import Program
 from neverboxes.tables import Table
 
@@ -151,6 +152,52 @@ def value_by_lines(stock, lines, row, at=-1):
         return None if test is None else value_by_lines(stock, lines, row, line[2 + test])
     told = tuple(value_by_lines(stock, lines, row, number) for number in line[2:])
     return stock.box(line[1]).table(told)
+
+
+def line_by_values(stock, line, row, values):
+    """The value of a line if the lines or cells that it refers to have some values."""
+    if line[0] == "input":
+        return row[line[1]]
+    if line[0] in ("sign", "never"):
+        return line[1] if line[0] == "sign" else None
+    told = [values[number] for number in line[1 if line[0] == "ask" else 2:]]
+    if line[0] == "box":
+        return stock.box(line[1]).table(tuple(told))
+    return None if told[0] is None else told[1 + told[0]]
+
+
+def rest_of(net, row):
+    """The rest values of a row: each cell is fired again and again, the last one first."""
+    lines = net.cells()
+    values = [None] * len(lines)
+    for _ in range(len(lines) + 1):
+        for at in reversed(range(len(lines))):
+            values[at] = line_by_values(net.stock, lines[at], row, values)
+    return tuple(values)
+
+
+def drawn_nets(chance, many, most_inputs=3, most_cells=16):
+    """Nets drawn by a seeded random.Random."""
+    for _ in range(many):
+        signs = chance.choice([2, 3])
+        boxes = [Box(name, some_table(chance, chance.randrange(4), signs)) for name in "abc"[:chance.randrange(4)]]
+        stock = Stock(*boxes, signs=signs)
+        inputs = chance.randint(0, most_inputs)
+        cells = []
+        while len(cells) < chance.randint(1, most_cells):
+            word = chance.choice(["input", "sign", "never", "ask", "ask", "box", "box"])
+            if word == "input" and inputs > 0:
+                cells.append(("input", chance.randrange(inputs)))
+            elif word in ("sign", "never"):
+                cells.append(("sign", chance.randrange(signs)) if word == "sign" else ("never",))
+            elif word == "ask":
+                cells.append(("ask", *[None] * (1 + signs)))
+            elif word == "box" and boxes:
+                box = chance.choice(boxes)
+                cells.append(("box", box.name, *[None] * box.table.inputs))
+        # The references are drawn when the number of cells is known.
+        cells = [tuple(chance.randrange(len(cells)) if item is None else item for item in cell) for cell in cells]
+        yield Net(stock, inputs, cells)
 
 
 def raised(call, *args, **more):

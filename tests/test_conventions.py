@@ -98,6 +98,31 @@ MODULES = {
             "__repr__": "(self)",
         },
     },
+    "nets": {
+        "Net": {
+            "__init__": "(self, stock, inputs, cells)", "cells": "(self)", "rest_values": "(self, row)",
+            "cell_table": "(self, cell)", "written": "(self, cell)", "answering": "(self)", "__len__": "(self)",
+            "__repr__": "(self)",
+        },
+    },
+    "firing": {
+        "Firing": {
+            "__init__": "(self, net, row)", "values_now": "(self)", "ready": "(self)", "rest": None,
+            "fire": "(self, cell)", "undo": "(self)", "finish": "(self)", "twin": "(self)", "__repr__": "(self)",
+        },
+    },
+    "powers": {
+        "makes_stock": "(one, other)", "compare": "(one, other)", "spare_boxes": "(stock)", "least_sets": "(stock)",
+        "cheapest": "(stock, prices, table)", "cheaper_sets": "(stock, prices, table)",
+    },
+    "everything": {
+        "or_table": "(signs)", "at_once_table": "(signs)", "makes_all": "(stock)", "or_program": "(stock)",
+        "at_once_program": "(stock)", "any_program": "(table, stock)", "hang_together": "(rows, lot)",
+        "widest_pairs": "(rows, signs)",
+    },
+    "onebox": {
+        "one_box": "(stock, name)", "one_box_program": "(stock, name)", "picked_program": "(stock, name, box)",
+    },
 }
 
 
