@@ -54,7 +54,7 @@ class Firing:
 
     def twin(self):
         other = Firing(self.net, self._row)
-        for cell in self._fired:
+        for cell in list(self._fired):
             other.fire(cell)
         return other
 

@@ -123,6 +123,46 @@ MODULES = {
     "onebox": {
         "one_box": "(stock, name)", "one_box_program": "(stock, name)", "picked_program": "(stock, name, box)",
     },
+    "asks": {
+        "askable": "(table, row)", "stuck_rows": "(table)", "needs_no_box": "(table)", "stuck_list": "(table, row)",
+    },
+    "trees": {
+        "is_tree": "(value, inputs, signs)", "tree_value": "(tree, row)", "tree_depth": "(tree)",
+        "best_tree": "(table)", "number_of_trees": "(table)", "every_tree": "(table)",
+        "tree_program": "(tree, inputs, stock)",
+        "TreeWalk": {
+            "__init__": "(self, tree)", "asked": None, "ended": None, "answer": None, "tell": "(self, value)",
+            "undo": "(self)", "told": "(self)",
+        },
+    },
+    "halfseen": {
+        "HalfSeen": {
+            "__init__": "(self, sheet)", "see": "(self, row, value)", "unsee": "(self, row)", "seen": "(self)",
+            "possible": "(self, row)", "sure": None, "open_rows": "(self)", "number": "(self)",
+            "shares": "(self, row)", "next_row": "(self)", "parting": "(self, row)", "twin": "(self)",
+            "__len__": "(self)", "__bool__": "(self)", "__repr__": "(self)",
+        },
+    },
+    "helpers": {
+        "with_helpers": "(rows, columns, signs)", "helped_sheet": "(sheet, columns)",
+        "adds_nothing": "(sheet, column)", "table_behind": "(rows, column, signs)",
+    },
+    "led": {
+        "left_out": "(sheet, numbers)", "row_added": "(sheet, row)", "reordered": "(sheet, order)",
+        "rewired": "(sheet, places)", "signs_exchanged": "(sheet, at, order)", "made_rows": "(rows, programs)",
+    },
+    "bench": {
+        "Bench": {
+            "__init__": "(self, *, signs=2)", "do": "(self, *deeds)", "undo": "(self)", "redo": "(self)",
+            "history": "(self)", "present_stock": "(self)", "busy": None, "list_names": "(self)",
+            "program_names": "(self)", "list_sheet": "(self, name)", "half_seen": "(self, name)",
+            "named_program": "(self, name)", "begin": "(self)", "keep": "(self)", "leave": "(self)",
+            "trial": "(self, function)", "journal": "(self)", "replayed": "(deeds, *, signs=2)",
+            "tried": "(self, *deeds)", "say": "(self, line)", "__call__": "(self, line)", "log": "(self)",
+            "twin": "(self)", "__eq__": "(self, other)", "__len__": "(self)", "__bool__": "(self)",
+            "__repr__": "(self)",
+        },
+    },
 }
 
 

@@ -3,6 +3,7 @@
 import doctest
 import unittest
 
+from neverboxes.tables import Table
 from tests.samples import raised
 
 SHEETS = """
@@ -28,6 +29,32 @@ BOOKS = """
 >>> [book.rounds, book.function_table('f').least, book.round_of('f', (0,)), book.answer_of('f', (1,))]
 [1, [((0,), 1)], 1, None]
 """
+TREES = """
+>>> from neverboxes.tables import Table
+>>> from neverboxes.trees import best_tree, number_of_trees, tree_depth
+>>> table = Table(2, [((1, None), 1), ((0, 0), 0), ((0, 1), 1)])
+>>> [best_tree(table), number_of_trees(table), tree_depth(best_tree(table)), table.hangs]
+[(0, ((1, (0, 1)), 1)), 1, 2, [(None, 0), (None, 1), (0, None)]]
+"""
+HALF_SEEN = """
+>>> from neverboxes.boxes import Box, Stock
+>>> from neverboxes.everything import or_table
+>>> from neverboxes.halfseen import HalfSeen
+>>> from neverboxes.sheets import sheet_of
+>>> seen = HalfSeen(sheet_of([(1, None), (None, 1), (0, 0)], Stock(Box('or', or_table(2)))))
+>>> done = seen.see(0, 1)
+>>> [seen.number(), seen.possible(1), seen.shares(1), seen.shares(2), seen.next_row(), seen.sure]
+[6, [None, 1], {None: 3, 1: 3}, {None: 2, 0: 2, 1: 2}, 2, {0: 1}]
+"""
+BENCHES = """
+>>> from neverboxes.bench import Bench
+>>> from neverboxes.everything import or_table
+>>> bench = Bench()
+>>> done = bench.do(('box', 'or', or_table(2)), ('list', 'rows', [(1, None), (None, 1), (0, 0)]))
+>>> said = ['forced rows', 'reach rows 0 1', 'reach rows 0 2', 'columns rows', 'sure rows']
+>>> [*[bench(line) for line in said], bench.history()]
+['4', '0 1', 'open', '21', '???', (1, 0)]
+"""
 
 
 class DocumentTest(unittest.TestCase):
@@ -46,6 +73,14 @@ class DocumentTest(unittest.TestCase):
     def test_books(self):
         self.check(BOOKS)
 
+    def test_trees(self):
+        self.check(TREES)
+
+    def test_half_seen(self):
+        self.check(HALF_SEEN)
+
+    def test_benches(self):
+        self.check(BENCHES)
+
     def test_conflict(self):
-        from neverboxes.tables import Table
         self.assertEqual(raised(Table, 2, [((1, None), 1), ((None, 1), 0)]), ("Conflict", 0, 1))

@@ -238,7 +238,8 @@ class WidestPairsTest(unittest.TestCase):
         self.assertEqual(widest_pairs(signs=2, rows=list(THREE_ROWS)), expected)
         self.assertEqual(widest_pairs([()], 3), [((0,), (0,))])
         rows = [(None, None), (0, None), (None, 1), (0, 1)]
-        self.assertEqual(widest_pairs(rows, 2)[:4], [((0,), (0, 1, 2, 3)), ((1,), (1, 3)), ((2,), (2, 3)), ((3,), (3,))])
+        self.assertEqual(widest_pairs(rows, 2)[:4],
+                         [((0,), (0, 1, 2, 3)), ((1,), (1, 3)), ((2,), (2, 3)), ((3,), (3,))])
 
     def test_sheets_of_stocks_that_make_all_tables(self):
         chance = random.Random(291)

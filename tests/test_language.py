@@ -129,11 +129,20 @@ class LanguageTest(unittest.TestCase):
                     names.extend(alias.name for alias in node.names)
                 elif isinstance(node, ast.Assign):
                     self.assertEqual(len(node.targets), 1)
+                    self.check_value(node.value, names)
                     names.append(node.targets[0].id)
-                    ast.literal_eval(node.value)
                 else:
                     self.assertIsInstance(node.value.value, str, (path.name, node.lineno))
             self.assertEqual(len(names), len(set(names)), path.name)
+
+    def check_value(self, node, above):
+        """A plain value, or a dict from plain values to functions that are defined above."""
+        if isinstance(node, ast.Dict) and all(isinstance(value, ast.Name) for value in node.values):
+            for key, value in zip(node.keys, node.values):
+                ast.literal_eval(key)
+                self.assertIn(value.id, above)
+        else:
+            ast.literal_eval(node)
 
     def test_forbidden_forms(self):
         for path, tree in trees().items():
@@ -255,3 +264,75 @@ class LanguageTest(unittest.TestCase):
             for node in ast.walk(tree):
                 if isinstance(node, ast.Raise):
                     self.assertIn(called_name(node.exc), errors | {"TypeError"}, (path.name, node.lineno))
+
+    def test_what_is_caught_and_what_is_done_at_last(self):
+        errors = {node.name for node in trees()[PACKAGE / "errors.py"].body if isinstance(node, ast.ClassDef)}
+        for path, tree in trees().items():
+            for node in ast.walk(tree):
+                if isinstance(node, ast.ExceptHandler):
+                    kinds = node.type.elts if isinstance(node.type, ast.Tuple) else [node.type]
+                    self.assertLessEqual({kind.id for kind in kinds}, errors, (path.name, node.lineno))
+                if isinstance(node, ast.Try):
+                    for row in node.finalbody:
+                        self.check_last(row, path.name)
+
+    def check_last(self, row, place):
+        self.assertIsInstance(row, (ast.Assign, ast.If), place)
+        if isinstance(row, ast.Assign):
+            self.assertIsInstance(row.value, (ast.Name, ast.Attribute, ast.Constant), place)
+        else:
+            self.assertIsInstance(row.test.ops[0], (ast.Is, ast.IsNot), place)
+            for inner in [*row.body, *row.orelse]:
+                self.check_last(inner, place)
+
+    def test_properties_and_operators_change_nothing(self):
+        """By the names of what they call: they may change only what they have created by a plain assignment."""
+        reached, left = [], []
+        made, methods, properties = defined_functions()
+        for name, nodes in methods.items():
+            if name.startswith("__") and name != "__call__":
+                left.extend(nodes)
+        for nodes in properties.values():
+            left.extend(nodes)
+        while left:
+            node = left.pop()
+            if node in reached:
+                continue
+            reached.append(node)
+            for part in ast.walk(node):
+                if isinstance(part, ast.Call):
+                    left.extend(made.get(called_name(part), []))
+                    left.extend(methods.get(getattr(part.func, "attr", None), []))
+                if isinstance(part, ast.Attribute) and isinstance(part.ctx, ast.Load):
+                    left.extend(properties.get(part.attr, []))
+        for node in reached:
+            self.check_unchanging(node)
+
+    def check_unchanging(self, node):
+        created = {part.targets[0].id for part in ast.walk(node) if isinstance(part, ast.Assign)
+                   and isinstance(part.targets[0], ast.Name)}
+        changing = ("append clear extend insert pop remove reverse setdefault update sort add discard").split()
+        for part in ast.walk(node):
+            self.assertNotIsInstance(part, (ast.Yield, ast.YieldFrom, ast.AugAssign), node.name)
+            if isinstance(part, ast.Attribute) and isinstance(part.ctx, (ast.Store, ast.Del)):
+                self.assertEqual([node.name, part.value.id], ["__init__", "self"])
+            if isinstance(part, ast.Subscript) and isinstance(part.ctx, (ast.Store, ast.Del)):
+                self.assertIn(part.value.id, created, node.name)
+            if isinstance(part, ast.Call) and getattr(part.func, "attr", None) in changing:
+                self.assertIn(part.func.value.id, created, node.name)
+
+
+def defined_functions():
+    """The functions and classes by their names (a class stands for its __init__), the methods, the properties."""
+    made, methods, properties = {}, {}, {}
+    for tree in trees().values():
+        for node in tree.body:
+            if isinstance(node, ast.FunctionDef):
+                made.setdefault(node.name, []).append(node)
+            for part in node.body if isinstance(node, ast.ClassDef) else ():
+                if isinstance(part, ast.FunctionDef) and part.name == "__init__":
+                    made.setdefault(node.name, []).append(part)
+                elif isinstance(part, ast.FunctionDef):
+                    kind = properties if "property" in [mark.id for mark in part.decorator_list] else methods
+                    kind.setdefault(part.name, []).append(part)
+    return made, methods, properties
