@@ -273,5 +273,4 @@ class Bench:
         return True
 
     def __repr__(self):
-        state = self._state
-        return f"Bench({len(state.stock)} boxes, {len(state.lists)} lists, {len(state.programs)} programs)"
+        return f"Bench({self._state.counts_text()})"

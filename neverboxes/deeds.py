@@ -55,6 +55,9 @@ class State:
         inputs, lines = self.programs[name]
         return Program(self.stock, inputs, lines)
 
+    def counts_text(self):
+        return f"{len(self.stock)} boxes, {len(self.lists)} lists, {len(self.programs)} programs"
+
     def with_stock(self, stock):
         return State(stock, self.lists, self.programs)
 

@@ -8,11 +8,11 @@ from neverboxes.values import is_number, is_value
 
 
 def check_agree(sheet, seen):
-    """Checks whether seen values agree; seen is the dict of them with ascending rows."""
+    """Checks whether seen values agree; seen is the dict from rows to them."""
     column = [seen.get(row) for row in range(len(sheet.rows()))]
     filling = filled(sheet.pairs(), column)
-    for row, value in seen.items():
-        if value is None and filling[row] is not None:
+    for row in sorted(seen):
+        if seen[row] is None and filling[row] is not None:
             raise Barred(row, filling[row])
 
 
@@ -45,9 +45,7 @@ class HalfSeen:
             raise InvalidValue(value)
         if row in self._seen and self._seen[row] != value:
             raise AlreadySeen(row)
-        seen = self.seen()
-        seen[row] = value
-        check_agree(self.sheet, {other: seen[other] for other in sorted(seen)})
+        check_agree(self.sheet, {**self._seen, row: value})
         self._seen[row] = value
 
     def unsee(self, row):

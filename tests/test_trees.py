@@ -148,6 +148,13 @@ class ThriftyTest(unittest.TestCase):
         self.assertEqual(best_tree(table), (2, ((0, (0, 1)), (1, (0, 1)))))
         self.assertEqual(number_of_trees(table), 1)
 
+    def test_one_input_to_ask_at_first_and_two_later(self):
+        table = Table(3, [((1, None, None), 1), ((0, 0, 0), 0), ((0, 0, 1), 1), ((0, 1, 0), 1), ((0, 1, 1), 0)])
+        trees = list(every_tree(table))
+        self.assertEqual([tree[0] for tree in trees], [0, 0])
+        self.assertEqual([tree[1][0][0] for tree in trees], [1, 2])
+        self.assertEqual([number_of_trees(table), best_tree(table)], [2, trees[0]])
+
     def test_large_tables(self):
         for inputs, signs, many in ((5, 2, 1658880), (4, 3, 55296), (4, 2, 576), (3, 3, 24)):
             table = parity(inputs, signs)
